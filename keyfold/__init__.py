@@ -1,0 +1,1 @@
+"""Keyfold: keys that name things by yes and no, folded into rows."""
