@@ -1,5 +1,7 @@
 """Whether a thing is names, an order, a sheet, a key or a fold."""
 
+from keyfold.rows import place_of, rows_as_left, rows_below
+
 KEPT_WORDS = ("names", "ask", "end")
 MOST_LETTERS = 8
 MOST_KEYS_ABOVE = 12
@@ -70,7 +72,7 @@ def is_fold(thing, order):
         return False
     if len(set(thing)) < len(thing) or not all([keeps_order(thing, row, order) for row in thing]):
         return False
-    return rows_as_left(thing) == list(range(len(thing)))
+    return rows_as_left(thing, len(thing) - 1) == list(range(len(thing)))
 
 
 def is_row(thing, number, many):
@@ -83,29 +85,5 @@ def is_asking_row(thing, number, many):
     return is_number_below(thing[1], number) and is_number_below(thing[2], number) and thing[1] != thing[2]
 
 
-# The numbers of the rows that a row leads to; only what is_row has let through is handed in.
-def rows_below(row):
-    return row[1:] if len(row) == 3 else ()
-
-
-# A leaf row asks nothing, so its place is behind every character.
-def place_of(row, order):
-    return order.index(row[0]) if len(row) == 3 else len(order)
-
-
 def keeps_order(fold, row, order):
     return all([place_of(row, order) < place_of(fold[number], order) for number in rows_below(row)])
-
-
-def rows_as_left(fold):
-    left = {}
-    leave_row(fold, len(fold) - 1, left)
-    return list(left)
-
-
-# Rows lead only to rows ahead of them, so the walk ends; by the order it goes no deeper than there are characters.
-def leave_row(fold, number, left):
-    for below in rows_below(fold[number]):
-        if below not in left:
-            leave_row(fold, below, left)
-    left[number] = True

@@ -4,10 +4,7 @@ import itertools
 import unittest
 
 from keyfold.things import is_fold
-
-NONE = ("names", ())
-OAK = ("names", ("oak",))
-ELM = ("names", ("elm",))
+from tests.samples import ELM, NONE, OAK, each_leaf_of, fold_of
 
 
 def answer_from(fold, number, thing):
@@ -15,41 +12,6 @@ def answer_from(fold, number, thing):
     while len(row) == 3:
         row = fold[row[2] if thing[row[0]] else row[1]]
     return row[1]
-
-
-def fold_of(leaf_of, order):
-    """The fold by this order of a dict from things to leaf rows, built row by row as it is left."""
-    rows = []
-
-    def add(row):
-        if row not in rows:
-            rows.append(row)
-        return rows.index(row)
-
-    def walk(place, known):
-        if place == len(order):
-            return add(leaf_of[tuple(known[character] for character in range(len(order)))])
-        inner = [{**known, order[place]: value} for value in (0, 1)]
-        if all(alike(inner, place + 1)):
-            return walk(place + 1, inner[0])
-        no = walk(place + 1, inner[0])
-        yes = walk(place + 1, inner[1])
-        return add((order[place], no, yes))
-
-    def alike(inner, place):
-        for rest in itertools.product((0, 1), repeat=len(order) - place):
-            ends = [{**known, **dict(zip(order[place:], rest))} for known in inner]
-            one, other = [leaf_of[tuple(end[character] for character in range(len(order)))] for end in ends]
-            yield one == other
-
-    walk(0, {})
-    return tuple(rows)
-
-
-def each_leaf_of(many, leaves):
-    things = list(itertools.product((0, 1), repeat=many))
-    for told in itertools.product(leaves, repeat=len(things)):
-        yield dict(zip(things, told))
 
 
 class Folds(unittest.TestCase):

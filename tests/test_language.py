@@ -156,8 +156,9 @@ class Language(unittest.TestCase):
         self.assertEqual(faults_of(package_sources()), [])
 
     def test_the_files_that_are_promised_are_read(self):
-        for name in ("__init__.py", "errors.py", "things.py", "writing.py"):
-            self.assertIn(name, package_sources())
+        names = "__init__ answers errors folding reading rows things writing"
+        for name in names.split():
+            self.assertIn(name + ".py", package_sources())
 
     def test_code_within_the_rules_has_no_fault(self):
         self.assertEqual(with_piece(WITHIN), [])
