@@ -16,6 +16,12 @@ def place_of(row, order):
     return order.index(row[0]) if asks(row) else len(order)
 
 
+# The number that a row leads to for things that have this value; a row that asks something else stays where it is.
+def side_of(rows, number, character, value):
+    row = rows[number]
+    return row[1 + value] if row[0] == character else number
+
+
 # The numbers of the rows that are come to from the top, as they are left by going to no first, then to yes.
 def rows_as_left(rows, top):
     left = {}
@@ -53,10 +59,8 @@ class Rows:
     def number_of_ask(self, character, no, yes):
         return no if no == yes else self.number_of((character, no, yes))
 
-    # Where a row goes on for things that have this value; a row that asks something else stays where it is.
     def side(self, number, character, value):
-        row = self.gathered[number]
-        return row[1 + value] if row[0] == character else number
+        return side_of(self.gathered, number, character, value)
 
     def first_character(self, character, no, yes):
         places = [place_of(self.gathered[number], self.order) for number in (no, yes)]
@@ -84,3 +88,15 @@ class Rows:
         for place, number in enumerate(left):
             numbers[number] = place
         return tuple([with_numbers(self.gathered[number], numbers) for number in left])
+
+
+# The fold with the names that names_of makes of each leaf's; rows that become alike by it become one.
+def renamed(fold, order, names_of):
+    rows = Rows(order)
+    numbers = []
+    for row in fold:
+        if asks(row):
+            numbers.append(rows.number_of_ask(row[0], numbers[row[1]], numbers[row[2]]))
+        else:
+            numbers.append(rows.number_of(("names", names_of(row[1]))))
+    return rows.fold_from(numbers[-1])

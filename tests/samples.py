@@ -98,3 +98,72 @@ def ways_to_go_on(leaf_of, order):
                 for thing in leaf_of
             ))
     return len(ways)
+
+
+EVERY_LEAF = [
+    ("names", names) for many in range(4) for names in itertools.combinations(("ash", "elm", "oak"), many)
+]
+
+
+def each_sheet(many):
+    return list(itertools.product((0, 1, None), repeat=many))
+
+
+def drawn_sheets(count, many):
+    """Sheets with nothing known, with all known and with some, in turn."""
+    source = random.Random(count * 100 + many)
+    drawn = [tuple(source.choice((0, 1, None)) for _ in range(many)) for _ in range(count)]
+    return [(None,) * many, tuple(source.choice((0, 1)) for _ in range(many))] + drawn
+
+
+def agrees(thing, sheet):
+    return all(value is None or part == value for part, value in zip(thing, sheet))
+
+
+def agreeing(sheet):
+    return [thing for thing in each_thing(len(sheet)) if agrees(thing, sheet)]
+
+
+def as_known(thing, sheet):
+    """The thing that has what the sheet has, and what this thing has where the sheet has None."""
+    return tuple(part if value is None else value for part, value in zip(thing, sheet))
+
+
+def flipped(thing, character):
+    return tuple(1 - part if place == character else part for place, part in enumerate(thing))
+
+
+def names_for(fold, thing):
+    """The names of the leaf row that a fold's way for this thing ends at."""
+    row = fold[len(fold) - 1]
+    while len(row) == 3:
+        character, no, yes = row
+        row = fold[{0: no, 1: yes}[thing[character]]]
+    word, names = row
+    return names
+
+
+def names_by_thing(fold, many):
+    return {thing: names_for(fold, thing) for thing in each_thing(many)}
+
+
+def fold_answering(names_of, order):
+    """The fold by this order that answers the names that a dict has for each thing, in whatever order they come."""
+    return fold_of({thing: ("names", tuple(sorted(names))) for thing, names in names_of.items()}, order)
+
+
+def each_fold(order, leaves):
+    return [fold_of(leaf_of, order) for leaf_of in each_leaf_of(len(order), leaves)]
+
+
+def drawn_folds(count, order, leaves=tuple(EVERY_LEAF)):
+    """Folds that hang of all characters, of some and of none."""
+    source = random.Random(f"{count} {order}")
+    folds = []
+    for number in range(count):
+        if number % 3 == 0:
+            leaf_of = {thing: source.choice(leaves) for thing in each_thing(len(order))}
+        else:
+            leaf_of = leaves_of(drawn_key(source, len(order), source.randrange(len(order) + 2), leaves), len(order))
+        folds.append(fold_of(leaf_of, order))
+    return folds

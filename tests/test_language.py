@@ -156,7 +156,7 @@ class Language(unittest.TestCase):
         self.assertEqual(faults_of(package_sources()), [])
 
     def test_the_files_that_are_promised_are_read(self):
-        names = "__init__ answers errors folding reading rows things writing"
+        names = "__init__ answers asking counting cutting errors folding pairs reading rows sheets things twins writing"
         for name in names.split():
             self.assertIn(name + ".py", package_sources())
 
